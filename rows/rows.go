@@ -17,12 +17,17 @@ func Put[T any](l []T, one func(T) []byte) []byte {
 	return out
 }
 
-// Take reads a length and then as many elements by one, each of which reads at least a byte. It stops at the first error of r.
+// Take reads a length and then as many elements by one. It stops at the first error of r.
 func Take[T any](r *pack.Reader, one func(*pack.Reader) T) []T {
+	return Some(r, r.Num(math.MaxInt), one)
+}
+
+// Some reads so many elements by one, each of which reads at least a byte. It stops at the first error of r.
+func Some[T any](r *pack.Reader, size uint64, one func(*pack.Reader) T) []T {
 	var out []T
-	for range r.Num(math.MaxInt) {
+	for range size {
 		x := one(r)
-		// The length may be far more than the bytes can hold.
+		// The size may be far more than the bytes can hold.
 		if r.Err() != api.OK {
 			return nil
 		}
