@@ -4,8 +4,10 @@ import (
 	"testing"
 
 	"confidant/api"
+	"confidant/lattice"
 	"confidant/samples"
 	"confidant/script"
+	"confidant/tree"
 )
 
 // TestP40_8_Scripts: without errors, and the same ones each time.
@@ -28,6 +30,28 @@ func TestP40_8_Scripts(t *testing.T) {
 					if s.Leq[n][label] && p.Seed != s.Parts[n].Seed {
 						t.Fatalf("label %d has other secrets, and flows to %d", n, label)
 					}
+				}
+			}
+		}
+	}
+}
+
+// TestP40_3_Trees: valid, with labels that allow all tasks to do their work.
+func TestP40_3_Trees(t *testing.T) {
+	for seed := range uint64(1000) {
+		leq := [][][]bool{lattice.Powers(0), lattice.Powers(2), lattice.Powers(4), lattice.Chain(5)}[seed%4]
+		label := int(seed) % len(leq)
+		l := samples.Tree(seed, leq, label)
+		if !tree.Right(l, len(leq)) {
+			t.Fatalf("tree %d is not valid", seed)
+		}
+		for n, node := range l {
+			if !leq[label][node.Label] {
+				t.Fatalf("tree %d: label %d does not flow to %d", seed, label, node.Label)
+			}
+			for _, kid := range node.Kids {
+				if n > 0 && !leq[l[kid].Label][node.Label] {
+					t.Fatalf("tree %d: label %d of node %d does not flow to %d", seed, l[kid].Label, kid, node.Label)
 				}
 			}
 		}
