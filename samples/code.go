@@ -49,7 +49,7 @@ func (m *maker) statement() []api.Instr {
 		m.forked, m.awaited, m.awaited, m.awaited, m.emitted, m.emitted,
 	}
 	if m.gates > 0 {
-		kinds = append(kinds, m.released, m.released, m.taken, m.taken)
+		kinds = append(kinds, m.released, m.released, m.leaked, m.leaked, m.leaked, m.taken, m.taken)
 	}
 	return kinds[m.Below(len(kinds))]()
 }
@@ -116,6 +116,11 @@ func (m *maker) emitted() []api.Instr {
 
 func (m *maker) released() []api.Instr {
 	return []api.Instr{m.load(number), at(api.Release, m.Below(m.gates)), m.store(number)}
+}
+
+// leaked lets an input down.
+func (m *maker) leaked() []api.Instr {
+	return []api.Instr{at(api.Push, m.Below(2)), m.labelled(api.Input), at(api.Release, m.Below(m.gates)), m.store(number)}
 }
 
 func (m *maker) taken() []api.Instr {

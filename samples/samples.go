@@ -60,7 +60,7 @@ func (m *maker) table() [][]bool {
 func (m *maker) ports() []api.Gate {
 	var out []api.Gate
 	for range 1 + m.Below(3) {
-		out = append(out, api.Gate{From: m.Below(m.labels), To: m.Below(m.labels), Need: uint32(m.Below(3)), Quota: m.Below(5)})
+		out = append(out, api.Gate{From: m.Below(m.labels), To: m.Below(m.labels), Need: uint32(m.Below(3)) & uint32(m.Below(3)), Quota: m.Below(5)})
 	}
 	return out
 }
