@@ -18,9 +18,9 @@ type plain struct {
 	labels  []*plainLabel
 	events  []api.Event
 	audit   []api.Record
-	pending []api.Record // without Seq and Round
-	ready   [][]int32    // released at each gate
-	asked   map[[2]int]int
+	pending []api.Record   // without Seq and Round
+	ready   [][]int32      // released at each gate
+	used    map[[2]int]int // how often a gate, by a label
 }
 
 // plainLabel is what belongs to a label; the top of a ring comes first.
@@ -47,7 +47,7 @@ type plainWaiting struct {
 }
 
 func newPlain(s api.Script) *plain {
-	p := &plain{s: s, ready: make([][]int32, len(s.Gates)), asked: map[[2]int]int{}}
+	p := &plain{s: s, ready: make([][]int32, len(s.Gates)), used: map[[2]int]int{}}
 	for _, part := range s.Parts {
 		p.labels = append(p.labels, &plainLabel{rings: make([][]api.Task, s.Workers), held: make([]*api.Task, s.Workers), picks: slices.Clone(part.Picks), seed: max(part.Seed, 1), fuel: part.Fuel})
 	}
@@ -282,14 +282,14 @@ func (p *plain) work(c, w int, t api.Task) {
 		pops := map[int]int{api.Input: 1, api.New: 1, api.Read: 1, api.Write: 2, api.Fork: 2, api.Wait: 1, api.Emit: 1, api.Release: 1}
 		i := p.s.Image[t.Func][t.Pc]
 		rest := len(t.Stack) - pops[i.Op]
-		pushes, to, code := p.ask(c, w, t, i, t.Stack[rest:])
+		a := p.ask(c, w, t, i, t.Stack[rest:])
 		switch {
-		case code == parks:
+		case a.code == parks:
 			return
-		case code != api.OK:
-			p.fail(c, w, t.Id, code)
-		case to >= 0:
-			y := p.join(c, to)
+		case a.code != api.OK:
+			p.fail(c, w, t.Id, a.code)
+		case a.to >= 0:
+			y := p.join(c, a.to)
 			if !p.flows(y, t.Clear) {
 				p.fail(c, w, t.Id, api.ErrClear)
 				return
@@ -298,7 +298,7 @@ func (p *plain) work(c, w int, t api.Task) {
 			t.Label = y
 			p.labels[y].coming = append(p.labels[y].coming, plainComing{p.round, t})
 		default:
-			t.Stack = append(slices.Clone(t.Stack[:rest]), pushes...)
+			t.Stack = append(slices.Clone(t.Stack[:rest]), a.pushes...)
 			t.Pc++
 			l.held[w] = &t
 		}
@@ -307,135 +307,191 @@ func (p *plain) work(c, w int, t api.Task) {
 
 const parks api.Errno = -1
 
-// ask returns what the instruction puts on the stack, or the label at which the task must be, or the error.
-func (p *plain) ask(c, w int, t api.Task, i api.Instr, taken []int32) (pushes []int32, to int, code api.Errno) {
-	arg := int(i.Arg)
-	done := func(l ...int32) ([]int32, int, api.Errno) { return l, -1, api.OK }
-	fails := func(code api.Errno) ([]int32, int, api.Errno) { return nil, -1, code }
-	goes := func(x int) ([]int32, int, api.Errno) { return nil, x, api.OK }
-	isName := func() bool { return taken[0] >= 0 && int(taken[0]/65536) < len(p.s.Leq) }
-	maySend := func(x int) bool { return p.flows(c, x) && p.flows(x, t.Clear) }
-	l := p.labels[c]
-	switch i.Op {
-	case api.Raise:
-		if !p.flows(arg, c) {
-			return goes(arg)
+// asked is one instruction of a task at label c, performed by worker w.
+type asked struct {
+	*plain
+	c, w  int
+	task  api.Task
+	arg   int
+	taken []int32
+}
+
+// answer is what the instruction puts on the stack, or the label at which the task must be (if it is not negative), or the error.
+type answer struct {
+	pushes []int32
+	to     int
+	code   api.Errno
+}
+
+func done(l ...int32) answer {
+	return answer{pushes: l, to: -1}
+}
+
+func fails(code api.Errno) answer {
+	return answer{to: -1, code: code}
+}
+
+func (p *plain) ask(c, w int, t api.Task, i api.Instr, taken []int32) answer {
+	a := asked{p, c, w, t, int(i.Arg), taken}
+	return map[int]func() answer{
+		api.Raise: a.raise, api.Input: a.input, api.New: a.create, api.Read: a.read, api.Write: a.write,
+		api.Emit: a.emit, api.Fork: a.fork, api.Wait: a.wait, api.Release: a.release, api.Take: a.take,
+	}[i.Op]()
+}
+
+// at is what l returns if the task is at all of these labels.
+func (a asked) at(l func() answer, labels ...int) answer {
+	for _, x := range labels {
+		if !a.flows(x, a.c) {
+			return answer{to: x}
 		}
-		return done()
-	case api.Input:
-		if !p.flows(arg, c) {
-			return goes(arg)
-		}
-		in := p.s.Parts[arg].Inputs
-		if taken[0] < 0 || int(taken[0]) >= len(in) {
+	}
+	return l()
+}
+
+func (a asked) maySend(label int) bool {
+	return a.flows(a.c, label) && a.flows(label, a.task.Clear)
+}
+
+// by is the label of the identity on the stack, or -1 if there is none.
+func (a asked) by() int {
+	if a.taken[0] < 0 || int(a.taken[0]/65536) >= len(a.s.Leq) {
+		return -1
+	}
+	return int(a.taken[0] / 65536)
+}
+
+func (a asked) raise() answer {
+	return a.at(func() answer { return done() }, a.arg)
+}
+
+func (a asked) input() answer {
+	return a.at(func() answer {
+		in, n := a.s.Parts[a.arg].Inputs, int(a.taken[0])
+		if n < 0 || n >= len(in) {
 			return fails(api.ErrNone)
 		}
-		return done(in[taken[0]])
-	case api.New:
-		if !maySend(arg) {
-			return fails(api.ErrLabel)
-		}
-		if len(l.refs) >= p.s.Parts[c].Refs {
-			return fails(api.ErrQuota)
-		}
-		l.refs = append(l.refs, api.Ref{Label: arg, Value: taken[0]})
-		return done(int32(c*65536 + len(l.refs) - 1))
-	case api.Read:
-		if !isName() {
-			return fails(api.ErrNone)
-		}
-		if by := int(taken[0] / 65536); !p.flows(by, c) {
-			return goes(by)
-		}
-		r := p.ref(taken[0])
+		return done(in[n])
+	}, a.arg)
+}
+
+func (a asked) create() answer {
+	l := a.labels[a.c]
+	if !a.maySend(a.arg) {
+		return fails(api.ErrLabel)
+	}
+	if len(l.refs) >= a.s.Parts[a.c].Refs {
+		return fails(api.ErrQuota)
+	}
+	l.refs = append(l.refs, api.Ref{Label: a.arg, Value: a.taken[0]})
+	return done(int32(a.c*65536 + len(l.refs) - 1))
+}
+
+func (a asked) read() answer {
+	if a.by() < 0 {
+		return fails(api.ErrNone)
+	}
+	return a.at(func() answer {
+		r := a.ref(a.taken[0])
 		if r == nil {
 			return fails(api.ErrNone)
 		}
-		if !p.flows(r.Label, c) {
-			return goes(r.Label)
-		}
-		return done(r.Value)
-	case api.Write:
-		if !isName() {
-			return fails(api.ErrNone)
-		}
-		if !p.flows(int(taken[0]/65536), c) {
-			return fails(api.ErrLabel)
-		}
-		r := p.ref(taken[0])
-		if r == nil {
-			return fails(api.ErrNone)
-		}
-		if !maySend(r.Label) {
-			return fails(api.ErrLabel)
-		}
-		r.Value = taken[1]
-		return done()
-	case api.Emit:
-		if !maySend(arg) {
-			return fails(api.ErrLabel)
-		}
-		p.tell(arg, api.EvEmit, w, t.Id, int(taken[0]), 0)
-		return done()
-	case api.Fork:
-		if !maySend(int(taken[0])) {
-			return fails(api.ErrLabel)
-		}
-		if len(l.rings[w]) == p.s.Parts[c].Ring {
-			return fails(api.ErrFull)
-		}
-		id, ok := p.promise(c, int(taken[0]))
-		if !ok {
-			return fails(api.ErrQuota)
-		}
-		p.tell(c, api.EvFork, w, t.Id, int(id), 0)
-		p.push(c, w, api.Task{Id: id, Func: arg, Vars: [4]int32{taken[1]}, Label: c, Clear: int(taken[0]), Privs: t.Privs, Worker: w})
-		return done(id)
-	case api.Wait:
-		if !isName() {
-			return fails(api.ErrNone)
-		}
-		if by := int(taken[0] / 65536); !p.flows(by, c) {
-			return goes(by)
-		}
-		f := p.future(taken[0])
+		return a.at(func() answer { return done(r.Value) }, r.Label)
+	}, a.by())
+}
+
+func (a asked) write() answer {
+	if a.by() < 0 {
+		return fails(api.ErrNone)
+	}
+	if !a.flows(a.by(), a.c) {
+		return fails(api.ErrLabel)
+	}
+	r := a.ref(a.taken[0])
+	if r == nil {
+		return fails(api.ErrNone)
+	}
+	if !a.maySend(r.Label) {
+		return fails(api.ErrLabel)
+	}
+	r.Value = a.taken[1]
+	return done()
+}
+
+func (a asked) emit() answer {
+	if !a.maySend(a.arg) {
+		return fails(api.ErrLabel)
+	}
+	a.tell(a.arg, api.EvEmit, a.w, a.task.Id, int(a.taken[0]), 0)
+	return done()
+}
+
+func (a asked) fork() answer {
+	label := int(a.taken[0])
+	if !a.maySend(label) {
+		return fails(api.ErrLabel)
+	}
+	if len(a.labels[a.c].rings[a.w]) == a.s.Parts[a.c].Ring {
+		return fails(api.ErrFull)
+	}
+	id, ok := a.promise(a.c, label)
+	if !ok {
+		return fails(api.ErrQuota)
+	}
+	a.tell(a.c, api.EvFork, a.w, a.task.Id, int(id), 0)
+	a.push(a.c, a.w, api.Task{Id: id, Func: a.arg, Vars: [4]int32{a.taken[1]}, Label: a.c, Clear: label, Privs: a.task.Privs, Worker: a.w})
+	return done(id)
+}
+
+func (a asked) wait() answer {
+	if a.by() < 0 {
+		return fails(api.ErrNone)
+	}
+	return a.at(func() answer {
+		f := a.future(a.taken[0])
 		if f == nil {
 			return fails(api.ErrNone)
 		}
-		if !p.flows(f.Label, c) {
-			return goes(f.Label)
-		}
-		if f.State == api.Kept {
-			return done(f.Value)
-		}
-		if f.State == api.Broken {
-			return fails(api.ErrChild)
-		}
-		p.tell(c, api.EvPark, w, t.Id, int(taken[0]), 0)
-		l.waiting = append(l.waiting, plainWaiting{t, taken[0]})
-		return fails(parks)
-	case api.Release:
-		g := p.s.Gates[arg]
-		if !p.flows(c, g.From) || t.Privs|g.Need != t.Privs || p.asked[[2]int{arg, c}] >= g.Quota {
-			return done(0)
-		}
-		p.asked[[2]int{arg, c}]++
-		p.pending = append(p.pending, api.Record{Gate: arg, To: g.To, Value: taken[0], By: t.Id})
-		return done(1)
+		return a.at(func() answer { return a.result(f) }, f.Label)
+	}, a.by())
+}
+
+func (a asked) result(f *api.Future) answer {
+	if f.State == api.Kept {
+		return done(f.Value)
 	}
-	g := p.s.Gates[arg]
-	if !p.flows(c, g.To) {
+	if f.State == api.Broken {
+		return fails(api.ErrChild)
+	}
+	a.tell(a.c, api.EvPark, a.w, a.task.Id, int(a.taken[0]), 0)
+	l := a.labels[a.c]
+	l.waiting = append(l.waiting, plainWaiting{a.task, a.taken[0]})
+	return fails(parks)
+}
+
+func (a asked) release() answer {
+	g, use := a.s.Gates[a.arg], [2]int{a.arg, a.c}
+	if !a.flows(a.c, g.From) || a.task.Privs|g.Need != a.task.Privs || a.used[use] >= g.Quota {
+		return done(0)
+	}
+	a.used[use]++
+	a.pending = append(a.pending, api.Record{Gate: a.arg, To: g.To, Value: a.taken[0], By: a.task.Id})
+	return done(1)
+}
+
+func (a asked) take() answer {
+	to := a.s.Gates[a.arg].To
+	if !a.flows(a.c, to) {
 		return fails(api.ErrLabel)
 	}
-	if !p.flows(g.To, c) {
-		return goes(g.To)
-	}
-	if len(p.ready[arg]) == 0 {
-		return done(0, 0)
-	}
-	v := p.ready[arg][0]
-	p.ready[arg] = p.ready[arg][1:]
-	return done(v, 1)
+	return a.at(func() answer {
+		if len(a.ready[a.arg]) == 0 {
+			return done(0, 0)
+		}
+		v := a.ready[a.arg][0]
+		a.ready[a.arg] = a.ready[a.arg][1:]
+		return done(v, 1)
+	}, to)
 }
 
 func (p *plain) live() int {

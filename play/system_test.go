@@ -372,3 +372,21 @@ func TestP40_8_Determinism(t *testing.T) {
 		}
 	}
 }
+
+// TestP30_4_Together: what the promises state by these functions holds of the same scripts, up to the end of all tasks.
+func TestP30_4_Together(t *testing.T) {
+	for seed := range uint64(100) {
+		s := samples.Script(seed, false)
+		n := min(play.Bound(s), 2000)
+		r, err := run.Upto(s, n)
+		if err != api.OK || !play.Over(s) || !play.Orderly(s, r) || !play.Hides(s, samples.Secrets(s, 0, seed), 0, n) {
+			t.Fatalf("script %d: %d, Over %v, Orderly %v", seed, err, play.Over(s), play.Orderly(s, r))
+		}
+		if len(r.Events) > 1 {
+			slices.Reverse(r.Events)
+			if r.Events[0].Round > r.Events[len(r.Events)-1].Round && play.Orderly(s, r) {
+				t.Fatalf("script %d is orderly backwards", seed)
+			}
+		}
+	}
+}

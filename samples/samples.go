@@ -31,7 +31,7 @@ func Script(seed uint64, gates bool) api.Script {
 	return s
 }
 
-// Secrets returns s with other Inputs, Picks and Seeds of those labels that do not flow to label.
+// Secrets returns s with other Inputs, Picks and Seeds of those labels that do not flow to label, which must be one of s.
 func Secrets(s api.Script, label int, seed uint64) api.Script {
 	m := &maker{Rng: rng.New(seed*3935559000370003845 + 1)}
 	s.Parts = slices.Clone(s.Parts)
